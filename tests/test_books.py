@@ -6,7 +6,7 @@ import unittest
 
 from duskbook import errors
 from duskbook.books import beacons_of, book_made, broken_rules, holds, is_void, left_behind
-from samples import KINDS, evenings_of, rules_of
+from samples import KINDS, evenings_of, is_so, rules_of
 
 
 class EqualToAll:
@@ -48,19 +48,6 @@ NO_KINDS = [
 
 def named(thing):
     return thing.__class__.__name__ if isinstance(thing, Unequalled) else repr(thing)
-
-
-def is_so(kind, rule, evening):
-    """Whether a rule holds, once more and by other means than the program's."""
-    if kind == "eithers":
-        return bool({(beacon, evening[beacon]) for beacon in range(len(evening))} & set(rule))
-    lit = {beacon for beacon in range(len(evening)) if evening[beacon]}
-    body = set(rule[0])
-    if kind == "sums":
-        return len(lit & body) in ((1, 3, 5) if rule[1] else (0, 2, 4))
-    if kind == "ifs":
-        return not body <= lit or rule[1] in lit
-    return bool(body & lit) or (rule[1] is not None and rule[1] not in lit)
 
 
 class Refusing(unittest.TestCase):

@@ -38,6 +38,24 @@ def called_name(node):
     return None
 
 
+def sides(node):
+    """What stands between the signs that may part several sets."""
+    if isinstance(node, ast.BinOp) and isinstance(node.op, (ast.Sub, ast.BitAnd, ast.BitOr, ast.BitXor)):
+        return sides(node.left) + sides(node.right)
+    return [node]
+
+
+def local_names(tree):
+    """Parameters and locals, the names of the file's top aside."""
+    for part in ast.walk(tree):
+        if isinstance(part, (ast.FunctionDef, ast.Lambda, ast.ListComp)):
+            for node in ast.walk(part):
+                if isinstance(node, ast.arg):
+                    yield node.arg
+                elif isinstance(node, ast.Name) and isinstance(node.ctx, ast.Store):
+                    yield node.id
+
+
 def bound_names(tree):
     """Every name that a file binds: defs, classes, parameters, locals, handlers and imports."""
     for node in ast.walk(tree):
@@ -161,6 +179,27 @@ class Language(unittest.TestCase):
                 if isinstance(node, ast.Name) and isinstance(node.ctx, ast.Load):
                     self.assertTrue(node.id in bound or node.id in OWN_NAMES, f"{path.name}:{node.lineno} {node.id}")
 
+    def test_no_local_is_called_like_a_class_or_an_import_of_its_file(self):
+        for path, tree in self.trees.items():
+            taken = [node.name for node in tree.body if isinstance(node, ast.ClassDef)]
+            taken += [name.name for node in tree.body if isinstance(node, ast.ImportFrom) for name in node.names]
+            self.assertEqual(sorted(set(taken) & set(local_names(tree))), [], path)
+
+    def test_no_name_is_a_method_and_a_value(self):
+        classes = [node for where, node in self.nodes() if isinstance(node, ast.ClassDef)]
+        methods = [part.name for node in classes for part in node.body if isinstance(part, ast.FunctionDef)]
+        values = [node.attr for where, node in self.nodes()
+                  if isinstance(node, ast.Attribute) and isinstance(node.ctx, ast.Store)]
+        self.assertEqual(sorted(set(methods) & set(values)), [])
+        for node in classes:
+            names = [part.name for part in node.body if isinstance(part, ast.FunctionDef)]
+            self.assertEqual(len(names), len(set(names)), node.name)
+
+    def test_init_gives_back_nothing(self):
+        for where, node in self.nodes():
+            if isinstance(node, ast.FunctionDef) and node.name == "__init__":
+                self.assertEqual([part for part in ast.walk(node) if isinstance(part, ast.Return)], [], where)
+
     def test_methods(self):
         own = {node.name for where, node in self.nodes() if isinstance(node, ast.FunctionDef)}
         for where, node in self.nodes():
@@ -180,6 +219,7 @@ class Language(unittest.TestCase):
             walked = [node.iter for node in ast.walk(tree) if isinstance(node, (ast.For, ast.comprehension))]
             walked += [part for node in ast.walk(tree) if called_name(node) in WALKED_IN for part in node.args]
             asked = [part for node in ast.walk(tree) if called_name(node) in ("len", "sorted") for part in node.args]
+            asked += [side for part in asked for side in sides(part)]
             for node in ast.walk(tree):
                 if called_name(node) in ("zip", "enumerate", "reversed", "range", "items", "keys", "values"):
                     self.assertIn(node, walked, f"{path.name}:{node.lineno}")
