@@ -6,48 +6,19 @@ import unittest
 
 from duskbook import errors
 from duskbook.books import beacons_of, book_made, broken_rules, holds, is_void, left_behind
+from oddities import NO_TRUTHS, EqualToAll, Unequalled, named
 from samples import KINDS, evenings_of, is_so, rules_of
-
-
-class EqualToAll:
-    """Says of itself that it is equal to whatever it is compared with."""
-
-    def __eq__(self, other):
-        return True
-
-    def __hash__(self):
-        return 0
-
-
-class Unequalled:
-    """Can be neither compared, hashed nor told true from false."""
-
-    __hash__ = None
-
-    def refuse(self, *others):
-        raise RuntimeError("not to be asked")
-
-    __eq__ = __ne__ = __lt__ = __le__ = __gt__ = __ge__ = __bool__ = __len__ = __repr__ = __str__ = refuse
-
 
 NO_BEACONS_NOR_NONE = [
     True, False, "", "0", "five", [], [0], (), (0,), {}, {0: 0}, -1, 60, 61, -60, 10 ** 400,
     1.0, b"0", object(), EqualToAll(), Unequalled(), {0}, int, range(3),
 ]
 NO_BEACONS = NO_BEACONS_NOR_NONE + [None]
-NO_TRUTHS = [
-    0, 1, -1, 2, "", "True", "False", "odd", None, [], [True], (), (True,), {}, {True: True},
-    1.0, 0.0, b"", object(), EqualToAll(), Unequalled(), bool,
-]
 NO_KINDS = [
     None, True, False, 0, 1, "", "either", "sum", "if", "not", "Eithers", "SUMS", " ifs", "nots ", "eitherssums",
     [], ["sums"], list("ifs"), (), ("sums",), KINDS, {}, {"sums": "sums"}, {"ifs"}, 1.0, b"sums", object(),
     EqualToAll(), Unequalled(), str,
 ]
-
-
-def named(thing):
-    return thing.__class__.__name__ if isinstance(thing, Unequalled) else repr(thing)
 
 
 class Refusing(unittest.TestCase):

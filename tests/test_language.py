@@ -173,7 +173,7 @@ class Language(unittest.TestCase):
             for name in bound:
                 if not re.fullmatch("__(init|eq|repr|str|len|all|version)__", name):
                     self.assertRegex(name, r"^[A-Za-z][A-Za-z0-9_]*$", path)
-                self.assertFalse(hasattr(builtins, name), f"{path.name}: {name}")
+                self.assertNotIn(name, vars(builtins), path)
                 self.assertNotIn(name, UNUSED_NAMES, path)
             for node in ast.walk(tree):
                 if isinstance(node, ast.Name) and isinstance(node.ctx, ast.Load):
