@@ -32,17 +32,23 @@ def traced(ahead, last):
     return tuple(reversed(road))
 
 
-def road_to(book, saying, other):
-    # Sayings are reached in the order of their distance, so that the first road to the other one is a shortest.
+def ways_from(book, saying):
+    # Every saying that is reached, with the one ahead of it. They are reached in the order of their distance, so that
+    # the road traced back from any of them is a shortest one.
     ahead = {saying: None}
     reached = [saying]
     place = 0
-    while place < len(reached) and other not in ahead:
+    while place < len(reached):
         for led in led_to(book, reached[place]):
             if led not in ahead:
                 ahead[led] = reached[place]
                 reached.append(led)
         place += 1
+    return ahead
+
+
+def road_to(book, saying, other):
+    ahead = ways_from(book, saying)
     if other not in ahead:
         return None
     return traced(ahead, other)

@@ -1,6 +1,7 @@
 """Small worlds that more than one test walks: all evenings, sayings and rules of a few beacons."""
 
 import itertools
+import random
 
 KINDS = ("eithers", "sums", "ifs", "nots")
 
@@ -60,6 +61,21 @@ def situations(kind, count, most, every=1):
                     if place % every == 0:
                         yield (kind, rules), hands, start
                     place += 1
+
+
+def drawn_situations(kind, count, most, number):
+    """So many situations of at most so many beacons and rules, the same ones each time."""
+    draw = random.Random(f"{kind} {count} {most}")
+    for size in range(number):
+        beacons = draw.randint(1, count)
+        # With few storm's beacons as well as with many, as most books are lost with many.
+        storms = draw.choice((0.15, 0.3, 0.5, 0.8))
+        hands = tuple("storm" if draw.random() < storms else "keeper" for beacon in range(beacons))
+        start = draw.choice((0, 0, draw.randint(0, beacons)))
+        # Mostly without the void rule, which settles all by itself.
+        rules = [rule for rule in rules_from(kind, start, beacons) if spoken_of(kind, rule) or draw.random() < 0.01]
+        if rules:
+            yield (kind, tuple(draw.choice(rules) for place in range(draw.randint(0, most)))), hands, start
 
 
 def is_so(kind, rule, evening):

@@ -7,20 +7,10 @@ from candidates import keeper_papers, storm_papers
 from duskbook.books import book_made
 from duskbook.checking import good
 from duskbook.playing import said
-from samples import evenings_of, is_so, situations
+from plays import PaperCase
+from samples import evenings_of, situations
 
 K, S = "keeper", "storm"
-
-
-def evenings_by(paper, book, hands, start, hand, ahead):
-    """All evenings behind the settled beacons where the hand plays by the paper and the other one as it likes."""
-    evenings = [ahead]
-    for beacon in range(start, len(hands)):
-        if hands[beacon] == hand:
-            evenings = [evening + (said(paper, book, hands, start, evening),) for evening in evenings]
-        else:
-            evenings = [evening + (lit,) for evening in evenings for lit in (False, True)]
-    return evenings
 
 
 class Playing(unittest.TestCase):
@@ -233,15 +223,7 @@ class ByStormsPapers(Playing):
             self.assert_all_said(say, paper, book, (K, S, K, S, S), 1, S)
 
 
-class Winning(unittest.TestCase):
-    def assert_wins(self, paper, book, hands, start, hand):
-        for ahead in ((False,) * start, (True,) * start):
-            for evening in evenings_by(paper, book, hands, start, hand, ahead):
-                for lit in evening:
-                    self.assertIn(repr(lit), ("True", "False"))
-                kept = all(is_so(book[0], rule, evening) for rule in book[1])
-                self.assertEqual(kept, hand == K, (paper, book, hands, start, evening))
-
+class Winning(PaperCase):
     def assert_good_ones_win(self, book, hands, start):
         for hand, papers in ((K, keeper_papers(book, hands, start)), (S, storm_papers(book, hands, start))):
             for paper in papers:

@@ -10,17 +10,11 @@ from duskbook.errors import NoLight
 from duskbook.playing import said
 from duskbook.settlers import Papered, Rowed, Settler, play_out
 from duskbook.watches import Watch
+from plays import settled
 from samples import KINDS, evenings_of, situations
 
 K, S = "keeper", "storm"
 EITHER_BOOK = book_made("eithers", [[(0, False), (1, True)], [(0, True), (1, False)]])
-
-
-def settled(book, hands, evening):
-    watch = Watch(book, hands)
-    for lit in evening:
-        watch.settle(lit)
-    return watch
 
 
 class Noting(Settler):
