@@ -31,8 +31,8 @@ def sum_rows(pairs, keepers):
 def sum_outcome(book, hands, start):
     keepers = beacons_with(hands, start, "keeper")
     storms = beacons_with(hands, start, "storm")
-    told = reduced(book)
-    places = storms_places(told[0], told[1], storms)
+    answer = reduced(book)
+    places = storms_places(answer[0], answer[1], storms)
     if places is not None:
         return ("storm", ("odd", places))
-    return ("keeper", ("sums", sum_rows(told[0], keepers)))
+    return ("keeper", ("sums", sum_rows(answer[0], keepers)))

@@ -226,6 +226,45 @@ class Language(unittest.TestCase):
                 if called_name(node) in ("set", "frozenset") or isinstance(node, ast.Set):
                     self.assertIn(node, asked, f"{path.name}:{node.lineno}")
 
+    def test_lists_and_dicts_of_the_top_are_only_read(self):
+        for path, tree in self.trees.items():
+            tops = {node.targets[0].id: node.value for node in tree.body if isinstance(node, ast.Assign)}
+            kept = {name for name, value in tops.items() if isinstance(value, (ast.List, ast.Dict))}
+            read = []
+            for node in ast.walk(tree):
+                if isinstance(node, ast.Subscript) and isinstance(node.ctx, ast.Load):
+                    read.append(node.value)
+                elif isinstance(node, ast.Compare) and isinstance(node.ops[0], (ast.In, ast.NotIn)):
+                    read.append(node.comparators[0])
+                elif isinstance(node, ast.Attribute) and node.attr == "get":
+                    read.append(node.value)
+                elif isinstance(node, (ast.For, ast.comprehension)):
+                    read.append(node.iter)
+                elif called_name(node) in ("len", "list", "dict", "tuple", "sorted"):
+                    read += node.args
+            for node in ast.walk(tree):
+                if isinstance(node, ast.Name) and isinstance(node.ctx, ast.Load) and node.id in kept:
+                    self.assertIn(node, read, f"{path.name}:{node.lineno} {node.id}")
+                if isinstance(node, ast.ImportFrom):
+                    source = self.trees[PACKAGE / (node.module.split(".")[1] + ".py")]
+                    drawn = [part.targets[0].id for part in source.body if isinstance(part, ast.Assign)
+                             and isinstance(part.value, (ast.List, ast.Dict))]
+                    self.assertEqual([name.name for name in node.names if name.name in drawn], [], path)
+            for name in kept:
+                inner = [part for part in ast.walk(tops[name]) if isinstance(part, (ast.List, ast.Dict))]
+                self.assertEqual(inner, [tops[name]], f"{path.name} {name}")
+
+    def test_errors_that_are_taken_and_raised(self):
+        own = [node.name for node in self.trees[PACKAGE / "errors.py"].body[1:]]
+        for where, node in self.nodes():
+            if isinstance(node, ast.ExceptHandler):
+                self.assertIsNotNone(node.type, where)
+                taken = node.type.elts if isinstance(node.type, ast.Tuple) else [node.type]
+                for name in taken:
+                    self.assertTrue(name.id in own or name.id in ("KeyError", "ZeroDivisionError"), where)
+            if isinstance(node, ast.Raise):
+                self.assertIn(called_name(node.exc), own, where)
+
     def test_words_that_stand_nowhere(self):
         for path, text in self.files.items():
             for word in UNUSED_WORDS:
